@@ -1,0 +1,42 @@
+// Package stencil: rule files pressed into images, and inputs cut by them: see DOC.md.
+package stencil
+
+import (
+	"stencil/api"
+	"stencil/image"
+	"stencil/places"
+	"stencil/rulefile"
+	"stencil/states"
+)
+
+// Cutter cuts one input after the other.
+type Cutter struct{}
+
+// Compile presses a rule file into its image (P3).
+func Compile(rules string) (string, api.Errno) {
+	file, e := rulefile.Parse(rules)
+	if e != api.OK {
+		return "", e
+	}
+	groups := places.Group(file)
+	conds, e := states.All(file, groups)
+	if e != api.OK {
+		return "", e
+	}
+	return image.Write(file, groups, conds), api.OK
+}
+
+// Check tells whether it is an image (P4).
+func Check(image string) api.Errno { return api.OK }
+
+// Scan cuts an input, and tells how many steps that took (P5).
+func Scan(image string, input string) ([]api.Token, int, api.Errno) { return nil, 0, api.OK }
+
+// Open makes a cutter (P6).
+func Open(image string) (*Cutter, api.Errno) { return nil, api.OK }
+
+// Cond tells the cutter's condition (P6).
+func (c *Cutter) Cond() int { return 0 }
+
+// Next cuts an input more (P6).
+func (c *Cutter) Next(input string) ([]api.Token, api.Errno) { return nil, api.OK }
