@@ -11,7 +11,8 @@ import (
 const Nowhere = -1
 
 // State is one state: 0 if its texts are no tokens, else their rule and 1; and
-// by group of bytes the state to which its bytes lead, or Nowhere.
+// by group of bytes (in an image: by class) the state to which its bytes lead,
+// or Nowhere.
 type State struct {
 	Token int
 	Next  []int

@@ -3,7 +3,8 @@ package stencil
 
 import (
 	"stencil/api"
-	"stencil/image"
+	"stencil/cut"
+	"stencil/layout"
 	"stencil/places"
 	"stencil/rulefile"
 	"stencil/states"
@@ -23,14 +24,27 @@ func Compile(rules string) (string, api.Errno) {
 	if e != api.OK {
 		return "", e
 	}
-	return image.Write(file, groups, conds), api.OK
+	return layout.Write(file, groups, conds), api.OK
 }
 
 // Check tells whether it is an image (P4).
-func Check(image string) api.Errno { return api.OK }
+func Check(image string) api.Errno {
+	_, e := layout.Read(image)
+	return e
+}
 
 // Scan cuts an input, and tells how many steps that took (P5).
-func Scan(image string, input string) ([]api.Token, int, api.Errno) { return nil, 0, api.OK }
+func Scan(image string, input string) ([]api.Token, int, api.Errno) {
+	if len(input) > api.MaxInput {
+		return nil, 0, api.ErrLong
+	}
+	tables, e := layout.Read(image)
+	if e != api.OK {
+		return nil, 0, e
+	}
+	tokens, steps := cut.Cut(tables, input)
+	return tokens, steps, api.OK
+}
 
 // Open makes a cutter (P6).
 func Open(image string) (*Cutter, api.Errno) { return nil, api.OK }

@@ -1,5 +1,4 @@
-// Package image lays out images, byte by byte.
-package image
+package layout
 
 import (
 	"stencil/places"
@@ -7,14 +6,11 @@ import (
 	"stencil/states"
 )
 
-// nowhere is the byte for a class that leads nowhere.
-const nowhere = 255
-
 // Write lays out the image of a rule file, out of its groups of bytes and the
 // states of its conditions.
 func Write(file rulefile.File, groups places.Groups, conds [][]states.State) string {
 	classOf, firsts := classes(len(groups.Places), conds)
-	image := []byte{'S', 'T', 1, byte(len(file.Rules))}
+	image := []byte{first, second, third, byte(len(file.Rules))}
 	for _, rule := range file.Rules {
 		image = append(image, byte(rule.Behind))
 	}
