@@ -7,8 +7,8 @@ import (
 	"stencil/states"
 )
 
-// cutter is a cut on its way: where it stands, and what it has told so far.
-type cutter struct {
+// progress is a cut on its way: where it stands, and what it has told so far.
+type progress struct {
 	image    layout.Image
 	input    string
 	cond     int
@@ -18,9 +18,10 @@ type cutter struct {
 	hopeless [][]bool // by condition, of each state the places in the input
 }
 
-// Cut cuts an input, and tells the tokens and how many steps it took.
-func Cut(image layout.Image, input string) ([]api.Token, int) {
-	c := cutter{image: image, input: input}
+// Cut cuts an input, beginning in a condition that the image has. It tells the
+// tokens, how many steps it took, and the condition in which it ends.
+func Cut(image layout.Image, cond int, input string) ([]api.Token, int, int) {
+	c := progress{image: image, input: input, cond: cond}
 	for _, list := range image.Conds {
 		c.hopeless = append(c.hopeless, make([]bool, len(list)*len(input)))
 	}
@@ -33,12 +34,12 @@ func Cut(image layout.Image, input string) ([]api.Token, int) {
 		}
 		c.pass(token-1, to)
 	}
-	return c.tokens, c.steps
+	return c.tokens, c.steps, c.cond
 }
 
 // look looks for a token from where the cut stands. It tells its rule and 1,
 // and its end; 0, if it finds none.
-func (c *cutter) look() (int, int) {
+func (c *progress) look() (int, int) {
 	list := c.image.Conds[c.cond]
 	hopeless := c.hopeless[c.cond]
 	token := 0
@@ -71,7 +72,7 @@ func (c *cutter) look() (int, int) {
 
 // pass does what is behind the rule of a token that was found, and moves on to
 // the token's end.
-func (c *cutter) pass(rule, to int) {
+func (c *progress) pass(rule, to int) {
 	behind := c.image.Behind[rule]
 	if behind != 1 {
 		c.tell(rule, to)
@@ -82,6 +83,6 @@ func (c *cutter) pass(rule, to int) {
 	c.place = to
 }
 
-func (c *cutter) tell(rule, to int) {
+func (c *progress) tell(rule, to int) {
 	c.tokens = append(c.tokens, api.Token{Rule: rule, From: c.place, To: to})
 }

@@ -1,6 +1,7 @@
 package stencil_test
 
 import (
+	"fmt"
 	"slices"
 	"strings"
 	"testing"
@@ -26,7 +27,7 @@ func isImage(text string) bool {
 	return true
 }
 
-// mustCheck asks Check, and Scan with it, for an error or for none.
+// mustCheck asks Check, and Scan and Open with it, for an error or for none.
 func mustCheck(t *testing.T, name, image string, want api.Errno) {
 	t.Helper()
 	if e := stencil.Check(image); e != want {
@@ -35,6 +36,13 @@ func mustCheck(t *testing.T, name, image string, want api.Errno) {
 	tokens, steps, e := stencil.Scan(image, "ab")
 	if e != want || want != api.OK && (tokens != nil || steps != 0) {
 		t.Errorf("%s: Scan(%.300q, ab) = %v, %d, %d, want %d", name, image, tokens, steps, e, want)
+	}
+	cutter, e := stencil.Open(image)
+	if e != want || (cutter != nil) != (want == api.OK) {
+		t.Errorf("%s: Open(%.300q) = %v, %d, want %d", name, image, cutter != nil, e, want)
+	}
+	if cutter != nil && cutter.Cond() != 0 {
+		t.Errorf("%s: a new cutter is in condition %d", name, cutter.Cond())
 	}
 }
 
@@ -186,9 +194,7 @@ func TestNearImages(t *testing.T) {
 					want = api.OK
 					good++
 				}
-				if e := stencil.Check(near); e != want {
-					t.Errorf("%d at %d of %q: %d, want %d", b, i, image, e, want)
-				}
+				mustCheck(t, fmt.Sprint(b, " at ", i), near, want)
 			}
 		}
 		if good <= len(image) {

@@ -38,10 +38,10 @@ func mustCompile(t *testing.T, rules string) string {
 func TestDocumentCuts(t *testing.T) {
 	mustScan(t, mustCompile(t, "A if .\nA [a-z]+ .\nA \\s -"), "if iff", told(0, 0, 2, 1, 3, 6), 8)
 	mustScan(t, mustCompile(t, "A a|a*b ."), "aaaa", told(0, 0, 1, 0, 1, 2, 0, 2, 3, 0, 3, 4), 9)
-	quotes := mustCompile(t, "A a .\nA \" B\nB [^\"]+ .\nB \" A")
-	mustScan(t, quotes, `a"b"a`, told(0, 0, 1, 1, 1, 2, 2, 2, 3, 3, 3, 4, 0, 4, 5), 9)
-	mustScan(t, quotes, `"`, told(1, 0, 1), 1)
-	mustScan(t, quotes, "ab", told(0, 0, 1, -1, 1, 1), 3)
+	image := mustCompile(t, quotes)
+	mustScan(t, image, `a"b"a`, told(0, 0, 1, 1, 1, 2, 2, 2, 3, 3, 3, 4, 0, 4, 5), 9)
+	mustScan(t, image, `"`, told(1, 0, 1), 1)
+	mustScan(t, image, "ab", told(0, 0, 1, -1, 1, 1), 3)
 }
 
 // The steps are counted by hand: those of each look, from place to place.
@@ -167,12 +167,13 @@ func TestLongInputs(t *testing.T) {
 
 type standing struct{ cond, state, place int }
 
-// cut is the tests' own cut, word by word as the document has it.
-func (t table) cut(input string) ([]api.Token, int) {
+// cut is the tests' own cut, word by word as the document has it. It tells the
+// tokens, the steps, and the condition in which it ends.
+func (t table) cut(cond int, input string) ([]api.Token, int, int) {
 	tokens := []api.Token{}
 	hopeless := map[standing]bool{}
 	steps := 0
-	for p, cond := 0, 0; p < len(input); {
+	for p := 0; p < len(input); {
 		now := standing{cond, 0, p}
 		ahead := []standing{}
 		found := api.Token{Rule: api.NoRule, From: p, To: p}
@@ -204,20 +205,20 @@ func (t table) cut(input string) ([]api.Token, int) {
 		}
 		p = found.To
 	}
-	return tokens, steps
+	return tokens, steps, cond
 }
 
-// longest tells the tokens of a cut that tries all texts, and knows nothing
-// of steps.
-func longest(input string, behind []int, token func(cond int, text string) int) []api.Token {
+// longest tells the tokens of a cut that tries all texts, and the condition in
+// which it ends; it knows nothing of steps.
+func longest(cond int, input string, behind []int, token func(cond int, text string) int) ([]api.Token, int) {
 	tokens := []api.Token{}
-	for p, cond := 0, 0; p < len(input); {
+	for p := 0; p < len(input); {
 		q := len(input)
 		for q > p && token(cond, input[p:q]) == 0 {
 			q--
 		}
 		if q == p {
-			return append(tokens, api.Token{Rule: api.NoRule, From: p, To: p})
+			return append(tokens, api.Token{Rule: api.NoRule, From: p, To: p}), cond
 		}
 		rule := token(cond, input[p:q]) - 1
 		if behind[rule] != 1 {
@@ -228,17 +229,17 @@ func longest(input string, behind []int, token func(cond int, text string) int) 
 		}
 		p = q
 	}
-	return tokens
+	return tokens, cond
 }
 
 // compare cuts an input in three ways.
 func compare(t *testing.T, name, image, input string) {
 	t.Helper()
 	by, _ := readTable(image)
-	tokens, steps := by.cut(input)
+	tokens, steps, cond := by.cut(0, input)
 	mustScan(t, image, input, tokens, steps)
-	if want := longest(input, by.behind, by.walk); !slices.Equal(tokens, want) {
-		t.Errorf("%s: the tests themselves cut %q into %v, want %v", name, input, tokens, want)
+	if want, end := longest(0, input, by.behind, by.walk); !slices.Equal(tokens, want) || cond != end {
+		t.Errorf("%s: the tests themselves cut %q into %v up to %d, want %v up to %d", name, input, tokens, cond, want, end)
 	}
 	all := 1
 	for _, states := range by.conds {
@@ -274,7 +275,7 @@ func TestRandomCuts(t *testing.T) {
 				behind = append(behind, rule.behind)
 			}
 			tokens, _, _ := stencil.Scan(image, input)
-			if want := longest(input, behind, file.token); !slices.Equal(tokens, want) {
+			if want, _ := longest(0, input, behind, file.token); !slices.Equal(tokens, want) {
 				t.Errorf("%q: the cut of %q is %v, want %v", rules, input, tokens, want)
 			}
 		}
@@ -329,15 +330,17 @@ func TestManySteps(t *testing.T) {
 	}
 }
 
+// spoil writes into all of a list, its spare room too.
+func spoil(list []api.Token) {
+	list = list[:cap(list)]
+	for i := range list {
+		list[i] = api.Token{Rule: 9, From: 9, To: 9}
+	}
+}
+
 // What was answered is the caller's, with its spare room.
 func TestTokensAreNew(t *testing.T) {
 	image := mustCompile(t, "A a .\nA b -\nA c A")
-	spoil := func(list []api.Token) {
-		list = list[:cap(list)]
-		for i := range list {
-			list[i] = api.Token{Rule: 9, From: 9, To: 9}
-		}
-	}
 	for _, input := range []string{"a", "aabca", strings.Repeat("a", 300), "x", "acx", ""} {
 		want, steps, _ := stencil.Scan(image, input)
 		want = slices.Clone(want)

@@ -11,7 +11,10 @@ import (
 )
 
 // Cutter cuts one input after the other.
-type Cutter struct{}
+type Cutter struct {
+	tables layout.Image
+	cond   int
+}
 
 // Compile presses a rule file into its image (P3).
 func Compile(rules string) (string, api.Errno) {
@@ -42,15 +45,28 @@ func Scan(image string, input string) ([]api.Token, int, api.Errno) {
 	if e != api.OK {
 		return nil, 0, e
 	}
-	tokens, steps := cut.Cut(tables, input)
+	tokens, steps, _ := cut.Cut(tables, 0, input)
 	return tokens, steps, api.OK
 }
 
 // Open makes a cutter (P6).
-func Open(image string) (*Cutter, api.Errno) { return nil, api.OK }
+func Open(image string) (*Cutter, api.Errno) {
+	tables, e := layout.Read(image)
+	if e != api.OK {
+		return nil, e
+	}
+	return &Cutter{tables: tables}, api.OK
+}
 
 // Cond tells the cutter's condition (P6).
-func (c *Cutter) Cond() int { return 0 }
+func (c *Cutter) Cond() int { return c.cond }
 
 // Next cuts an input more (P6).
-func (c *Cutter) Next(input string) ([]api.Token, api.Errno) { return nil, api.OK }
+func (c *Cutter) Next(input string) ([]api.Token, api.Errno) {
+	if len(input) > api.MaxInput {
+		return nil, api.ErrLong
+	}
+	tokens, _, cond := cut.Cut(c.tables, c.cond, input)
+	c.cond = cond
+	return tokens, api.OK
+}
